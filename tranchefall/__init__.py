@@ -1,0 +1,1 @@
+"""Tranchefall: coins that fall through ranks."""
