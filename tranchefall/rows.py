@@ -1,4 +1,4 @@
-"""The forms of the rows of a deal's text."""
+"""The forms of the rows of a deal's text, and how the words of any row are told."""
 
 from tranchefall.errors import BadRow
 from tranchefall.words import is_name, number_in, words_in
@@ -21,16 +21,28 @@ FORMS = {
 }
 # The least and the greatest number of names in the rows that take as many as they like between these.
 NAME_COUNTS = {"eat": (1, 6), "share": (2, 6)}
-GREATEST = {"coins": 1000000000000, "tenths": 10, "days": 9}
+# The kinds of numbers in the rows of debts ("day", "by") stand here too, as one function tells both sorts of rows.
+GREATEST = {"coins": 1000000000000, "tenths": 10, "days": 9, "day": 60, "by": 30}
 
 
 def row_of(row, place):
     words = words_in(row)
     if len(words) == 0:
         return None
-    kinds = kinds_behind(words[0], len(words) - 1)
-    if kinds is None:
-        raise BadRow("the row has no form of a deal's rows", place)
+    return row_told(words, kinds_behind(words[0], len(words) - 1), place)
+
+
+# None where no row that begins with this word has so many names behind it, or where no row begins with it.
+def kinds_behind(first, many):
+    if first in NAME_COUNTS:
+        ends = NAME_COUNTS[first]
+        return ("name",) * many if ends[0] <= many <= ends[1] else None
+    return FORMS.get(first)
+
+
+def row_told(words, kinds, place):
+    if kinds is None or len(kinds) != len(words) - 1:
+        raise BadRow("the row has no form that a row may have", place)
     told = [words[0]]
     for word, kind in zip(words[1:], kinds):
         value = value_in(word, kind)
@@ -38,17 +50,6 @@ def row_of(row, place):
             raise BadRow(f"the row has the word {word!r} where it can't stand", place)
         told.append(value)
     return told
-
-
-# None where no row that begins with this word has so many words behind it.
-def kinds_behind(first, many):
-    if first in NAME_COUNTS:
-        ends = NAME_COUNTS[first]
-        return ("name",) * many if ends[0] <= many <= ends[1] else None
-    kinds = FORMS.get(first)
-    if kinds is None or len(kinds) != many:
-        return None
-    return kinds
 
 
 def value_in(word, kind):
