@@ -8,6 +8,14 @@ def order_named(pool, name):
     return None
 
 
+# The order that the looks tell where the claims that they name were missed on so many days running.
+def look_order(pool, days_of):
+    for claim, days, order in pool[5]:
+        if days_of[claim] >= days:
+            return order
+    return pool[4][0][0]
+
+
 # By pairs (lender, borrower).
 def loans_by_ends(loans):
     return dict([((lender, borrower), coins) for lender, borrower, coins in loans])
