@@ -24,6 +24,7 @@ METHODS = set(
     " isupper items join keys ljust lower lstrip partition pop remove replace reverse rfind rjust rpartition"
     " rsplit rstrip setdefault split splitlines startswith strip update upper values zfill bit_length".split()
 )
+CHANGING = set("append clear extend insert pop remove reverse setdefault update".split())
 SPECIAL = {"__init__", "__eq__", "__repr__", "__str__", "__len__"}
 UNUSED_NAMES = set(
     "register mro elements open input version_info with_traceback add_note attrgetter breakpoint builtins"
@@ -151,6 +152,88 @@ def of_expression(node, methods):
             yield "L25 method"
 
 
+def parents_in(tree):
+    return {child: node for node in ast.walk(tree) for child in ast.iter_child_nodes(node)}
+
+
+def called_name(node):
+    return node.func.id if isinstance(node, ast.Call) and isinstance(node.func, ast.Name) else None
+
+
+def is_walked(node, parent):
+    """L23: whether zip(..) and its like, or items() and its like, stand where they are walked on the spot."""
+    if isinstance(parent, (ast.For, ast.comprehension)):
+        return parent.iter is node
+    if called_name(parent) in ("list", "tuple", "dict", "sorted", "sum", "any", "all", "enumerate", "zip", "min", "max"):
+        return node in parent.args
+    return False
+
+
+def changed_in(loop):
+    """The texts of what is changed within a loop: by an index or by a method that changes."""
+    for node in [one for row in loop.body for one in ast.walk(row)]:
+        if isinstance(node, ast.Subscript) and isinstance(node.ctx, ast.Store):
+            yield ast.unparse(node.value)
+        if isinstance(node, ast.Call) and isinstance(node.func, ast.Attribute) and node.func.attr in CHANGING:
+            yield ast.unparse(node.func.value)
+
+
+def walked_in(loop):
+    """The texts of what a loop walks, itself or through enumerate, items and their like."""
+    left = [loop.iter]
+    while left:
+        node = left.pop()
+        yield ast.unparse(node)
+        if called_name(node) in ("enumerate", "zip", "reversed"):
+            left.extend(node.args)
+        if isinstance(node, ast.Call) and isinstance(node.func, ast.Attribute):
+            left.append(node.func.value)
+
+
+def of_places(tree):
+    """What depends on where a thing stands."""
+    parents = parents_in(tree)
+    classes = {node.name for node in tree.body if isinstance(node, ast.ClassDef)}
+    imported = {one.name for node in tree.body if isinstance(node, ast.ImportFrom) for one in node.names}
+    kept = {node.targets[0].id for node in tree.body
+            if isinstance(node, ast.Assign) and isinstance(node.value, (ast.List, ast.Dict))}
+    for node in ast.walk(tree):
+        parent = parents.get(node)
+        if called_name(node) in ("zip", "enumerate", "reversed", "range") and not is_walked(node, parent):
+            yield "L23 kept", node.lineno
+        if isinstance(node, ast.Attribute) and node.attr in ("items", "keys", "values"):
+            if not is_walked(parent, parents.get(parent)):
+                yield "L23 kept", node.lineno
+        if isinstance(node, ast.For) and set(changed_in(node)) & set(walked_in(node)):
+            yield "L23 changed", node.lineno
+        if called_name(node) in ("set", "frozenset") and not (
+                isinstance(parent, ast.Compare) or called_name(parent) in ("sorted", "len")):
+            yield "L24 set", node.lineno
+        if isinstance(node, ast.Attribute) and node.attr in METHODS and not (
+                isinstance(parent, ast.Call) and parent.func is node):
+            yield "L25 method handed on", node.lineno
+        if isinstance(node, ast.Name) and node.id in kept and isinstance(parent, (ast.Return, ast.Assign, ast.Call)):
+            if parents.get(parent) is not None and called_name(parent) not in ("len", "list", "dict", "sorted"):
+                if not (isinstance(parent, ast.Assign) and node in parent.targets):
+                    yield "L15 handed on", node.lineno
+        if isinstance(node, ast.BinOp) and isinstance(node.op, ast.Pow) and not isinstance(node.right, ast.Constant):
+            yield "L27 power", node.lineno
+        if isinstance(node, ast.Assign) and isinstance(node.targets[0], (ast.Tuple, ast.List)):
+            yield "L6 targets", node.lineno
+        if isinstance(node, ast.arg) and node.annotation or isinstance(node, ast.FunctionDef) and node.returns:
+            yield "L21 annotation", node.lineno
+        if isinstance(node, ast.keyword) and node.arg not in ("key", "reverse", "default", "start", "strict"):
+            yield "L22 keyword", node.value.lineno
+        local = node.arg if isinstance(node, ast.arg) else None
+        if isinstance(node, ast.Name) and isinstance(node.ctx, ast.Store):
+            local = node.id
+        if local in classes | imported:
+            yield "L15 local", node.lineno
+        if isinstance(node, ast.Name) and node.id in classes and not (
+                isinstance(parent, (ast.Call, ast.ClassDef, ast.ExceptHandler))):
+            yield "L18 class", node.lineno
+
+
 def of_names(tree):
     for node, name in bound_names(tree):
         if name in SPECIAL:
@@ -164,7 +247,7 @@ def of_names(tree):
 def complaints(source, methods=frozenset()):
     tree = ast.parse(source)
     docstring = tree.body[0] if tree.body and is_docstring(tree.body[0]) else None
-    found = list(of_text(source)) + list(of_top(tree)) + list(of_names(tree))
+    found = list(of_text(source)) + list(of_top(tree)) + list(of_names(tree)) + list(of_places(tree))
     methods = methods | own_methods([tree])
     for node in ast.walk(tree):
         if isinstance(node, ast.stmt):
@@ -205,6 +288,22 @@ class Language(unittest.TestCase):
             for name in free:
                 del left[name]
 
+    def test_names_are_drawn_from_the_file_that_defines_them(self):
+        for tree in self.trees.values():
+            for node in [one for one in ast.walk(tree) if isinstance(one, ast.ImportFrom)]:
+                source = self.trees[node.module.split(".")[1]]
+                defined = {one.name for one in source.body if isinstance(one, (ast.FunctionDef, ast.ClassDef))}
+                self.assertLessEqual({one.name for one in node.names}, defined)
+
+    def test_values_of_objects_are_named_freely(self):
+        python_own = set()
+        for kind in (str, int, list, dict, set, bytes, tuple):
+            python_own |= set(dir(kind))
+        for tree in self.trees.values():
+            for node in ast.walk(tree):
+                if isinstance(node, ast.Attribute) and isinstance(node.ctx, ast.Store):
+                    self.assertNotIn(node.attr, python_own)
+
     def test_no_name_is_both_a_method_and_a_value(self):
         values = {
             node.attr for tree in self.trees.values() for node in ast.walk(tree)
@@ -227,6 +326,14 @@ class Complaints(unittest.TestCase):
             ("def f():\n    return eval('1')\n", "L8"), ("def f():\n    return x.title()\n", "L25"),
             ("def f():\n    return 'a % b'\n", "L27"), ("def _f():\n    pass\n", "L12"),
             ("def f(id):\n    pass\n", "L15"), ("# a type\n", "L17"), ("# \xe9\n", "L14"),
+            ("def f(x):\n    a = zip(x)\n", "L23"), ("def f(x):\n    return x.items()\n", "L23"),
+            ("def f(x):\n    for a in x:\n        x.append(a)\n", "L23"),
+            ("def f(x):\n    for a in x.items():\n        x[a] = 1\n", "L23"), ("def f(x):\n    return set(x)\n", "L24"),
+            ("def f(x):\n    return x.get\n", "L25"), ("a = [1]\ndef f():\n    return a\n", "L15"),
+            ("a = {}\ndef f():\n    g(a)\n", "L15"), ("def f(x):\n    return 2 ** x\n", "L27"),
+            ("def f(x):\n    a, b = x\n", "L6"), ("def f(x: int):\n    pass\n", "L21"), ("def f():\n    g(x=1)\n", "L22"),
+            ("from tranchefall.words import is_name\ndef f(is_name):\n    pass\n", "L15"),
+            ("class C:\n    pass\ndef f():\n    return [C]\n", "L18"),
             ("def f():\n" + "    pass\n" * 40, "L10"), ("class C:\n    a = 1\n", "L5"), ("#" * 121 + "\n", "L10"),
         ):
             with self.subTest(source=source):

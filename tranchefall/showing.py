@@ -1,14 +1,18 @@
-"""Writes a deal as a text."""
+"""Writes a deal, or any rows of words and numbers, as a text."""
 
 
 def shown_deal(deal):
     rows = []
     for pool in deal:
         rows.extend(pool_rows(pool))
-    return "\n".join([shown_row(row) for row in rows])
+    return rows_joined(rows)
 
 
-def shown_row(words):
+def rows_joined(rows):
+    return "\n".join([words_joined(row) for row in rows])
+
+
+def words_joined(words):
     return " ".join([str(word) for word in words])
 
 
