@@ -128,6 +128,28 @@ class States(Reaching):
         pool = pool_of("claim a 5 1", "pot v 9", "order o", "part a 10", "fill v", "rest a")
         self.assertEqual(states_of(pool), [((), (T,), (F,))])
 
+    def test_a_kill_behind_another_one(self):
+        # While b is alive its look keeps the first order, so b is eaten ahead of the day where the pot is filled.
+        pool = pool_of("claim a 5 1", "claim b 7 1", "pot v 3", "eat b a", "order o", "rest a", "order w", "fill v", "rest a",
+                       "look b 1 o", "look a 2 w")
+        self.assert_all_come_to(pool)
+        self.assertIsNotNone(days_into(pool, ((("b", 0), ("a", 0)), (F, F), (T,))))
+
+    def test_rules_ahead_of_a_cut_that_need_far_more_than_it(self):
+        # A rule that stands twice needs nothing the second time, if only the first was filled.
+        for ahead, rules in (
+            (["pot v 1000"], ["fill v", "fill v"]), ([], ["lend q 1000", "lend q 1000"]),
+            (["claim b 1000 1"], ["repay b", "repay b"]), (["claim b 1 1000"], ["pay b", "pay b"]),
+        ):
+            pots = [row for row in ahead if row.startswith("pot")]
+            claims = [row for row in ahead if row.startswith("claim")]
+            pool = pool_of("claim a 1 1", *claims, *pots, "order o", "part a 9", *rules, "pay a", "rest a", "look a 3 o")
+            self.assert_all_come_to(pool)
+            self.assert_rows(pool)
+        pool = pool_of("claim a 1 1", "claim b 1 1000", "order o", "rest a", "order w", "part a 9", "pay b", "pay b", "pay a",
+                       "rest a", "look b 5 w", "look a 7 o")
+        self.assert_all_come_to(pool)
+
     def test_great_numbers(self):
         pool = pool_of("claim a 1000000000000 1000000000000", "claim b 1000000000000 999999999999", "pot v 1000000000000",
                        "eat b", "order o", "part a 9", "pay a", "lend q 1000000000000", "fill v", "repay b", "rest a",

@@ -20,11 +20,12 @@ def order_now(pool, book):
     return look_order(pool, dict(book[2]))
 
 
+# Tells lists of the book on, so it is only asked of a book that is nobody else's.
 def with_dues(pool, book):
     sizes = dict(book[0])
     dues = dict([(claim[0], claim[2]) for claim in pool[1]])
     owed = [(claim, coins + dues[claim] if sizes[claim] > 0 else coins) for claim, coins in book[1]]
-    return (list(book[0]), owed, list(book[2]), list(book[3]), book[4])
+    return (book[0], owed, book[2], book[3], book[4])
 
 
 # The day of one pool; what it moves is not yet with the other pools.

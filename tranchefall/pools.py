@@ -26,7 +26,7 @@ def move_loan(coins_of, pool_name, kind, other, coins):
     if kind == "lend":
         coins_of[(pool_name, other)] = coins_of.get((pool_name, other), 0) + coins
     else:
-        coins_of[(other, pool_name)] = coins_of.get((other, pool_name), 0) - coins
+        coins_of[(other, pool_name)] -= coins
 
 
 def loans_behind(loans, pool_name, moves):

@@ -23,11 +23,12 @@ def ring_from(lends, first):
     names = [first]
     at = 0
     while at < len(names):
-        for other in lends[names[at]]:
+        lender = names[at]
+        for other in lends[lender]:
             if other == first:
-                return way_to(come_from, names[at])
+                return way_to(come_from, lender)
             if other not in come_from:
-                come_from[other] = names[at]
+                come_from[other] = lender
                 names.append(other)
         at += 1
     return None
